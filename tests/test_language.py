@@ -1,0 +1,161 @@
+"""The package keeps to the written part of Python: what of ../shared/LANGUAGE.md can be seen by a look at its files."""
+
+import ast
+import builtins
+import re
+import unittest
+from pathlib import Path
+
+PACKAGE = Path(__file__).resolve().parent.parent / "rulestable"
+BUILT_IN = set("""len range enumerate zip min max sum abs sorted reversed int str bool list tuple dict set frozenset
+isinstance ord repr any all divmod Exception ValueError TypeError KeyError IndexError LookupError ZeroDivisionError
+ArithmeticError OverflowError RuntimeError NotImplementedError AttributeError StopIteration object""".split())
+OWN_METHODS = ("__init__", "__eq__", "__repr__", "__str__", "__len__")
+OUT_WORDS = set("""type typing typing_extensions enum Enum IntEnum StrEnum Flag IntFlag Generic Protocol ABC ABCMeta
+namedtuple NamedTuple TypedDict TYPE_CHECKING abstractmethod""".split())
+OUT_NAMES = set("""register mro elements open input version_info with_traceback add_note format format_map""".split())
+METHODS = set("""append clear copy count endswith extend find get index insert isalnum isalpha isdigit islower isspace
+isupper items join keys ljust lower lstrip partition pop remove replace reverse rfind rjust rpartition rsplit rstrip
+setdefault split splitlines startswith strip update upper values zfill bit_length""".split())
+OUT_NODES = (
+    ast.With, ast.AsyncWith, ast.Match, ast.Delete, ast.Global, ast.Nonlocal, ast.Assert, ast.Yield, ast.YieldFrom,
+    ast.Await, ast.AsyncFor, ast.AsyncFunctionDef, ast.SetComp, ast.DictComp, ast.GeneratorExp, ast.NamedExpr,
+    ast.Starred, ast.Import, ast.Div, ast.TryStar,
+)
+PLAIN_NODES = (ast.Constant, ast.List, ast.Tuple, ast.Dict, ast.Name, ast.Load, ast.UnaryOp, ast.USub)
+
+
+def files():
+    return sorted(PACKAGE.rglob("*.py"))
+
+
+def trees():
+    return [(path.name, ast.parse(path.read_text(encoding="ascii"))) for path in files()]
+
+
+def nodes(*kinds):
+    """Each node of these kinds, with its file and row."""
+    return [(f"{name}:{getattr(node, 'lineno', 0)}", node)
+            for name, tree in trees() for node in ast.walk(tree) if isinstance(node, kinds)]
+
+
+class TestLanguage(unittest.TestCase):
+
+    def test_files(self):
+        self.assertTrue((PACKAGE / "__init__.py").is_file())
+        for path in PACKAGE.rglob("*"):
+            if "__pycache__" not in path.parts:
+                self.assertRegex(path.name, r"^(__init__|__main__|[a-z][a-z0-9_]*)\.py$")
+                self.assertNotIn(path.stem, dir(builtins))
+                self.assertNotIn(path.stem, OUT_WORDS)
+
+    def test_characters_and_sizes(self):
+        for path in files():
+            text = path.read_text(encoding="utf-8")
+            self.assertIsNone(re.search(r"[^\n -~]", text), path.name)
+            rows = text.split("\n")
+            self.assertLessEqual(len(rows), 400, path.name)
+            self.assertLessEqual(max(map(len, rows)), 120, path.name)
+        for where, node in nodes(ast.FunctionDef):
+            self.assertLessEqual(node.end_lineno - node.lineno + 1, 40, where)
+
+    def test_words_that_stand_nowhere(self):
+        for path in files():
+            text = path.read_text(encoding="ascii")
+            self.assertEqual(set(re.findall(r"\w+", text)) & OUT_WORDS, set(), path.name)
+            self.assertIsNone(re.search("dataclass|overload|contextmanager", text), path.name)
+
+    def test_imports(self):
+        for where, node in nodes(ast.ImportFrom):
+            self.assertEqual(node.level, 0, where)
+            self.assertRegex(node.module, r"^rulestable\.[a-z0-9_]+$", where)
+            self.assertNotIn("*", [alias.name for alias in node.names], where)
+
+    def test_no_two_files_draw_from_one_another(self):
+        drawn = {name[:-3]: {node.module.split(".")[1] for node in ast.walk(tree) if isinstance(node, ast.ImportFrom)}
+                 for name, tree in trees()}
+        left = dict(drawn)
+        while left:
+            free = [name for name in left if not left[name] & set(left)]
+            self.assertTrue(free, left)
+            for name in free:
+                left.pop(name)
+
+    def test_statements_and_expressions(self):
+        for where, node in nodes(*OUT_NODES):
+            self.fail(f"{where} {node}")
+        for where, node in nodes(ast.For, ast.While):
+            self.assertEqual(node.orelse, [], where)
+        for where, node in nodes(ast.Try):
+            self.assertEqual(node.finalbody, [], where)
+        for where, node in nodes(ast.Assign):
+            self.assertEqual(len(node.targets), 1, where)
+        for where, node in nodes(ast.ListComp):
+            self.assertEqual(len(node.generators), 1, where)
+            self.assertLessEqual(len(node.generators[0].ifs), 1, where)
+        for where, node in nodes(ast.Compare):
+            for kind, side in zip(node.ops, node.comparators):
+                if isinstance(kind, (ast.Is, ast.IsNot)):
+                    self.assertIn(getattr(side, "value", 0), (None, True, False), where)
+
+    def test_values(self):
+        for where, node in nodes(ast.Constant):
+            self.assertNotIsInstance(node.value, (float, bytes, complex), where)
+            if isinstance(node.value, str):
+                self.assertNotIn(chr(37), node.value, where)
+
+    def test_functions_and_classes(self):
+        for where, node in nodes(ast.FunctionDef, ast.ClassDef):
+            self.assertEqual(node.decorator_list, [], where)
+        for where, node in nodes(ast.FunctionDef, ast.Lambda):
+            told = node.args
+            self.assertEqual((told.vararg, told.kwarg, told.kwonlyargs, told.posonlyargs), (None, None, [], []), where)
+        for where, node in nodes(ast.ClassDef):
+            self.assertLessEqual(len(node.bases), 1, where)
+            methods = [part.name for part in node.body if isinstance(part, ast.FunctionDef)]
+            self.assertEqual(len(methods), len(set(methods)), where)
+
+    def test_names(self):
+        bound = [(where, node.name) for where, node in nodes(ast.FunctionDef, ast.ClassDef)]
+        bound += [(where, node.arg) for where, node in nodes(ast.arg)]
+        bound += [(where, node.id) for where, node in nodes(ast.Name) if isinstance(node.ctx, ast.Store)]
+        for where, name in bound:
+            if name not in OWN_METHODS:
+                self.assertRegex(name, r"^[A-Za-z][A-Za-z0-9_]*$", where)
+        at_top = [(where, name) for where, name in bound if name not in self.methods()]
+        for where, name in at_top:
+            self.assertNotIn(name, dir(builtins), where)
+        for where, name in bound + [(where, node.attr) for where, node in nodes(ast.Attribute)]:
+            self.assertNotIn(name, OUT_NAMES, where)
+
+    def test_names_of_pythons_own(self):
+        for where, node in nodes(ast.Name):
+            if node.id in dir(builtins):
+                self.assertIn(node.id, BUILT_IN, where)
+
+    def methods(self):
+        return {part.name for where, node in nodes(ast.ClassDef) for part in node.body
+                if isinstance(part, ast.FunctionDef)}
+
+    def test_methods(self):
+        for where, node in nodes(ast.Call):
+            if isinstance(node.func, ast.Attribute):
+                self.assertIn(node.func.attr, METHODS | self.methods(), where)
+
+    def test_no_name_is_a_method_and_a_value(self):
+        stored = {node.attr for where, node in nodes(ast.Attribute) if isinstance(node.ctx, ast.Store)}
+        self.assertEqual(stored & self.methods(), set())
+
+    def test_the_top_of_files(self):
+        allowed = (ast.ImportFrom, ast.FunctionDef, ast.ClassDef, ast.Assign)
+        for name, tree in trees():
+            self.assertIsNotNone(ast.get_docstring(tree), name)
+            for part in tree.body[1:]:
+                self.assertIsInstance(part, allowed, name)
+                if isinstance(part, ast.Assign):
+                    for inner in ast.walk(part.value):
+                        self.assertIsInstance(inner, PLAIN_NODES, name)
+
+
+if __name__ == "__main__":
+    unittest.main()
