@@ -4,6 +4,7 @@ GREAT = "ABCDEFGHIJKLMNOPQRSTUVWXYZ"
 SMALL_AND_FIGURES = "abcdefghijklmnopqrstuvwxyz0123456789"
 IN_SIGNS = "abcdefghijklmnopqrstuvwxyz0123456789+-*/()[]=<>,;.!?^&"
 LONGEST = 6
+END_MARK = "$"
 
 
 def is_whole(thing):

@@ -2,6 +2,7 @@
 
 import ast
 import builtins
+import functools
 import re
 import unittest
 from pathlib import Path
@@ -29,14 +30,35 @@ def files():
     return sorted(PACKAGE.rglob("*.py"))
 
 
+@functools.cache
 def trees():
     return [(path.name, ast.parse(path.read_text(encoding="ascii"))) for path in files()]
 
 
+@functools.cache
 def nodes(*kinds):
     """Each node of these kinds, with its file and row."""
     return [(f"{name}:{getattr(node, 'lineno', 0)}", node)
             for name, tree in trees() for node in ast.walk(tree) if isinstance(node, kinds)]
+
+
+@functools.cache
+def parents():
+    """A dict from each node to the one in which it stands."""
+    return {child: node for name, tree in trees() for node in ast.walk(tree) for child in ast.iter_child_nodes(node)}
+
+
+@functools.cache
+def methods():
+    """The names of all methods of the package's own classes."""
+    return {part.name for where, node in nodes(ast.ClassDef) for part in node.body if isinstance(part, ast.FunctionDef)}
+
+
+def called(node):
+    """The name of what a call calls, of a name or a method; None where the node is no call."""
+    if isinstance(node, ast.Call):
+        return getattr(node.func, "id", getattr(node.func, "attr", None))
+    return None
 
 
 class TestLanguage(unittest.TestCase):
@@ -122,7 +144,7 @@ class TestLanguage(unittest.TestCase):
         for where, name in bound:
             if name not in OWN_METHODS:
                 self.assertRegex(name, r"^[A-Za-z][A-Za-z0-9_]*$", where)
-        at_top = [(where, name) for where, name in bound if name not in self.methods()]
+        at_top = [(where, name) for where, name in bound if name not in methods()]
         for where, name in at_top:
             self.assertNotIn(name, dir(builtins), where)
         for where, name in bound + [(where, node.attr) for where, node in nodes(ast.Attribute)]:
@@ -133,18 +155,87 @@ class TestLanguage(unittest.TestCase):
             if node.id in dir(builtins):
                 self.assertIn(node.id, BUILT_IN, where)
 
-    def methods(self):
-        return {part.name for where, node in nodes(ast.ClassDef) for part in node.body
-                if isinstance(part, ast.FunctionDef)}
-
     def test_methods(self):
         for where, node in nodes(ast.Call):
             if isinstance(node.func, ast.Attribute):
-                self.assertIn(node.func.attr, METHODS | self.methods(), where)
+                self.assertIn(node.func.attr, METHODS | methods(), where)
 
     def test_no_name_is_a_method_and_a_value(self):
         stored = {node.attr for where, node in nodes(ast.Attribute) if isinstance(node.ctx, ast.Store)}
-        self.assertEqual(stored & self.methods(), set())
+        self.assertEqual(stored & methods(), set())
+
+    def test_no_local_is_called_like_a_class_or_an_import(self):
+        for name, tree in trees():
+            taken = {part.name for part in tree.body if isinstance(part, ast.ClassDef)}
+            taken |= {alias.name for part in tree.body if isinstance(part, ast.ImportFrom) for alias in part.names}
+            for part in ast.walk(tree):
+                bound = part.arg if isinstance(part, ast.arg) else getattr(part, "id", None)
+                if isinstance(part, ast.arg) or isinstance(getattr(part, "ctx", None), ast.Store):
+                    self.assertNotIn(bound, taken, f"{name}:{part.lineno}")
+
+    def test_each_name_once_at_the_top(self):
+        for name, tree in trees():
+            bound = [part.name for part in tree.body if isinstance(part, (ast.FunctionDef, ast.ClassDef))]
+            bound += [alias.name for part in tree.body if isinstance(part, ast.ImportFrom) for alias in part.names]
+            bound += [part.targets[0].id for part in tree.body if isinstance(part, ast.Assign)]
+            self.assertEqual(len(bound), len(set(bound)), name)
+
+    def test_names_are_drawn_from_the_file_that_defines_them(self):
+        defined = {name[:-3]: {getattr(part, "name", None) or part.targets[0].id for part in tree.body
+                               if isinstance(part, (ast.FunctionDef, ast.ClassDef, ast.Assign))} for name, tree in trees()}
+        for where, node in nodes(ast.ImportFrom):
+            for alias in node.names:
+                self.assertIn(alias.name, defined[node.module.split(".")[1]], where)
+                self.assertIsNone(alias.asname, where)
+
+    def test_no_annotations(self):
+        self.assertEqual(nodes(ast.AnnAssign), [])
+        for where, node in nodes(ast.FunctionDef):
+            self.assertIsNone(node.returns, where)
+        for where, node in nodes(ast.arg):
+            self.assertIsNone(node.annotation, where)
+
+    def test_keywords(self):
+        allowed = {"sorted": ("key", "reverse"), "min": ("key", "default"), "max": ("key", "default"), "sum": ("start",),
+                   "enumerate": ("start",), "zip": ("strict",)}
+        for where, node in nodes(ast.Call):
+            if called(node) in METHODS or called(node) in BUILT_IN:
+                for keyword in node.keywords:
+                    self.assertIn(keyword.arg, allowed.get(called(node), ()), where)
+
+    def test_walked_at_once(self):
+        takers = ("list", "tuple", "dict", "sorted", "sum", "any", "all", "enumerate", "zip", "min", "max", "join")
+        for where, node in nodes(ast.Call):
+            if called(node) in ("zip", "enumerate", "reversed", "range", "items", "keys", "values"):
+                above = parents()[node]
+                walked = isinstance(above, (ast.For, ast.comprehension)) and above.iter is node
+                self.assertTrue(walked or (called(above) in takers and above.args[0] is node), where)
+
+    def test_what_a_loop_walks_is_not_changed_in_it(self):
+        changes = ("append", "clear", "extend", "insert", "pop", "remove", "reverse", "setdefault", "update")
+        for where, loop in nodes(ast.For):
+            walked = {part.id for part in ast.walk(loop.iter) if isinstance(part, ast.Name)}
+            for part in [inner for row in loop.body for inner in ast.walk(row)]:
+                changed = None
+                if isinstance(part, ast.Call) and called(part) in changes and isinstance(part.func, ast.Attribute):
+                    changed = getattr(part.func.value, "id", None)
+                elif isinstance(part, ast.Subscript) and isinstance(part.ctx, ast.Store):
+                    changed = getattr(part.value, "id", None)
+                self.assertNotIn(changed, walked, f"{where} {changed}")
+
+    def test_sets_are_not_kept(self):
+        for where, node in nodes(ast.Call):
+            if called(node) in ("set", "frozenset"):
+                above = parents()[node]
+                self.assertTrue(isinstance(above, (ast.Compare, ast.BinOp)) or called(above) in ("sorted", "len"), where)
+        self.assertEqual(nodes(ast.Set), [])
+
+    def test_errors(self):
+        for where, node in nodes(ast.ExceptHandler):
+            self.assertIsNotNone(node.type, where)
+            self.assertNotIn(getattr(node.type, "id", None), ("Exception", "TypeError"), where)
+        for where, node in nodes(ast.Raise):
+            self.assertIsInstance(node.exc, ast.Call, where)
 
     def test_the_top_of_files(self):
         allowed = (ast.ImportFrom, ast.FunctionDef, ast.ClassDef, ast.Assign)
