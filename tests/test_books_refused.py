@@ -8,13 +8,8 @@ from rulestable.errors import Dead, Vast
 from rulestable.grammartext import read_grammar
 from tests.growing import count_of, go_down, row_of
 from tests.refusing import Refusing
+from tests.texts import BARE_FORTY, BARE_FORTY_ONE, FORTY, FORTY_ONE
 
-# A has a least size of 21, B of 5, C of 8; S has one of 40, or with the sign more one of 41.
-FORTY = "S : A B B C\nA : B B B B\nB : b b b b\nC : B c c"
-FORTY_ONE = FORTY + " c"
-# S has small trees; of those without leaves the smallest has a size of 40, or with one head more of 41.
-BARE_FORTY = "S : A D D | a\nA : B C C C\nB : C C C C\nC : D D D D\nD : ~"
-BARE_FORTY_ONE = "S : A D D D | a\nA : B C C C\nB : C C C C\nC : D D D D\nD : ~"
 TELLERS = (fruitful, empties, firsts, follows, need_small)
 
 

@@ -53,3 +53,8 @@ def no_words():
         "\xe4", "A\xe4", "\xc4", "\xdf", "\xb2", "E\xb2", "\u0663", "E\u0663", "\uff41", "\u0430", "\u0410",
         "\ud800", "\U0001f600",
     ]
+
+
+def all_things():
+    """Things of all kinds, words and small numbers among them."""
+    return other_things() + truths() + far_numbers() + no_words() + ["a", "E", "n", 0, 1, 2]
