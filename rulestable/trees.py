@@ -150,8 +150,8 @@ def is_tree(grammar, symbol, thing):
     return True
 
 
-def cut_of(grammar, tree, path, dot):
-    """Tell the symbols to the left of a path, and behind them those of the first dot children of the node there."""
+def trees_in_cut(tree, path, dot):
+    """Tell the children to the left of a path, and behind them the first dot children of the node there."""
     along = trees_along(tree, path)
     if along[-1].is_leaf():
         raise NoPlace(path)
@@ -159,8 +159,13 @@ def cut_of(grammar, tree, path, dot):
         raise NoPlace(dot)
     told = []
     for node, place in zip(along, path + [dot]):
-        told.extend([child.symbol_in(grammar) for child in node.children[:place]])
+        told.extend(list(node.children[:place]))
     return told
+
+
+def cut_of(grammar, tree, path, dot):
+    """Tell the symbols of the children to the left of a path and of the first dot children of the node there."""
+    return [child.symbol_in(grammar) for child in trees_in_cut(tree, path, dot)]
 
 
 def behind_of(tree, path):

@@ -21,6 +21,7 @@ FUNCTIONS = {
         goes_on(grammar,row)""",
     "items": """closed(grammar,items) led(grammar,items,symbol) core_of(items) is_valid(grammar,way,item,tree,path)""",
     "states": """paper_for(states,state,item)""",
+    "conflicts": """conflict_paper(states,conflict) is_conflict(grammar,ahead,entries,paper)""",
 }
 CLASSES = {
     "grammar.Grammar": """(rules,ranks=None) heads() signs() numbers_of(head) head_of(number) body_of(number)
@@ -29,6 +30,8 @@ CLASSES = {
     "trees.Node": """(number,children) signs() size() depth() is_leaf() symbol_in(grammar) at(path)""",
     "chart.Chart": """(grammar,row) has(symbol,i,j) tells() grown(symbol,i,j)""",
     "states.States": """(grammar,most=300) many() items(state) to(state,symbol) way(state)""",
+    "tables.Table": """(states,ranked=True) many() conflicts() decided() open_ones() entry(state,ahead) to(state,head)""",
+    "laying.Laid": """(table) groups() kept_apart() many() entry(group,ahead) to(group,head) open_ones()""",
 }
 
 
