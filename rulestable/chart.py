@@ -1,18 +1,16 @@
 """Charts: which parts of a row are yields of which symbols, with trees; and what a row has by all its trees."""
 
 from rulestable.books import need_small
-from rulestable.errors import NoRow
 from rulestable.trees import Leaf, Node, put_in
-from rulestable.words import is_head, is_row
+from rulestable.words import is_head, need_row
 
 MOST_IN_ROW = 10
 
 
-def need_row(grammar, row):
+def need_small_and_row(grammar, row):
     """Refuse a vast grammar, then what is no row of at most ten signs."""
     need_small(grammar)
-    if not is_row(row, MOST_IN_ROW):
-        raise NoRow(row)
+    need_row(row, MOST_IN_ROW)
 
 
 # Spans are kept in a dict: its keys are (symbol, i, j), its values grounds (size, number, places) of a smallest tree.
@@ -86,7 +84,7 @@ class Chart:
     """All spans of the symbols of a grammar in a row."""
 
     def __init__(self, grammar, row):
-        need_row(grammar, row)
+        need_small_and_row(grammar, row)
         self.spans = spans_of(grammar, row)
         self.trees = trees_by(grammar, self.spans)
 
@@ -105,7 +103,7 @@ class Chart:
 
 def is_closed_chart(grammar, row, triples):
     """Tell whether each rule leads from the triples and the row's signs to one of the triples."""
-    need_row(grammar, row)
+    need_small_and_row(grammar, row)
     spans = leaf_spans(row)
     for triple in triples:
         # A sign goes from where it stands in the row alone, whatever the triples say of it.
@@ -212,7 +210,7 @@ def grow_tails(grammar, begin, last, spans, tails):
 
 def goes_on(grammar, row):
     """Tell a shortest row that makes with this one, behind it, a row that is let by, or None."""
-    need_row(grammar, row)
+    need_small_and_row(grammar, row)
     last = len(row)
     spans = spans_of(grammar, row)
     tails = {}

@@ -1,9 +1,12 @@
 """The kinds of words: whole numbers, signs, heads, symbols and rows."""
 
+from rulestable.errors import NoRow
+
 GREAT = "ABCDEFGHIJKLMNOPQRSTUVWXYZ"
 SMALL_AND_FIGURES = "abcdefghijklmnopqrstuvwxyz0123456789"
 IN_SIGNS = "abcdefghijklmnopqrstuvwxyz0123456789+-*/()[]=<>,;.!?^&"
 LONGEST = 6
+MOST_READ = 40
 END_MARK = "$"
 
 
@@ -40,3 +43,9 @@ def is_symbol(thing):
 def is_row(thing, most):
     """Tell whether the thing is a list of at most so many signs."""
     return isinstance(thing, list) and len(thing) <= most and all([is_sign(sign) for sign in thing])
+
+
+def need_row(thing, most):
+    """Refuse what is no list of at most so many signs."""
+    if not is_row(thing, most):
+        raise NoRow(thing)

@@ -1,4 +1,4 @@
-"""The tests' own tables, papers for conflicts, partings and readings, by the document's words.
+"""The tests' own tables, papers for conflicts and partings, by the document's words.
 
 Nothing here asks the package what it should tell, and grammars are asked for their rules and ranks alone.
 """
@@ -200,43 +200,6 @@ def are_led_apart(table, apart, one, other, symbol):
     if None in goals:
         return goals != (None, None)
     return goals in apart
-
-
-# Readings [92] to [95].
-
-class OwnReading:
-    """A reading by a table: of whatever tells entries and where heads lead."""
-
-    def __init__(self, rules, table, row):
-        self.rules, self.table = rules, table
-        self.pile, self.steps, self.piles = [0], [], [[0]]
-        self.where = None
-        for place, sign in enumerate(list(row) + ["$"]):
-            if not self.takes(self.pile, sign, self.steps):
-                self.where = place
-                break
-            self.piles.append(list(self.pile))
-
-    def takes(self, pile, ahead, steps):
-        """Do all that is done with this ahead; tell whether it is taken."""
-        while True:
-            entry = self.table.entry(pile[-1], ahead)
-            if entry is None or entry == ("stop",):
-                return False
-            if entry == ("accept",):
-                return True
-            if entry[0] == "shift":
-                pile.append(entry[1])
-                steps.append(("shift", ahead))
-                return True
-            head, body = self.rules[entry[1]]
-            del pile[len(pile) - len(body):]
-            pile.append(self.table.to(pile[-1], head))
-            steps.append(entry)
-
-    def expected(self):
-        """What could stand where the row was refused."""
-        return [ahead for ahead in aheads_of(self.rules) if self.takes(list(self.piles[-1]), ahead, [])]
 
 
 # Grammars.

@@ -159,3 +159,42 @@ def wide_tree(leaves):
             trees.append(Node(2, [Leaf("a")]))
         trees = [Node(0, trees[place:place + 4]) for place in range(0, len(trees), 4)]
     return trees[0]
+
+
+def heights_of(rules):
+    """For each fruitful head how deep its least deep trees are, a leaf being 1 deep."""
+    found = {}
+    for turn in range(len(rules) + 1):
+        for head, body in rules:
+            deep = [found.get(symbol) if is_great(symbol) else 1 for symbol in body]
+            if None not in deep:
+                found[head] = min(found.get(head, 10 ** 6), 1 + max(deep, default=0))
+    return found
+
+
+def grown_tree(rules, symbol, depth, chance):
+    """Some tree of the symbol that is so deep, or one of the least deep ones where there are no others."""
+    heights = heights_of(rules)
+
+    def grow(part, depth):
+        if not is_great(part):
+            return Leaf(part)
+        needed = {number: max([heights.get(other, 10 ** 6) for other in body if is_great(other)], default=0)
+                  for number, (head, body) in enumerate(rules) if head == part}
+        fitting = [number for number in needed if needed[number] < depth]
+        number = chance.choice(fitting or [number for number in needed if needed[number] == min(needed.values())])
+        return Node(number, [grow(child, depth - 1) for child in rules[number][1]])
+
+    return grow(symbol, depth)
+
+
+def with_other_part(rules, tree, depth, chance):
+    """The tree with another part at some place: (tree, place in the yield, how many signs go there, those that come)."""
+    path, part = chance.choice(list(nodes_with_paths(tree)))
+    other = grown_tree(rules, rules[part.number][0], depth, chance)
+    place = len([sign for spot, sign in leaves_with_paths(tree) if spot < path])
+    told = other
+    for length in range(len(path) - 1, -1, -1):
+        above = part_at(tree, path[:length])
+        told = Node(above.number, above.children[:path[length]] + (told,) + above.children[path[length] + 1:])
+    return told, place, len(row_of(part)), row_of(other)

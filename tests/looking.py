@@ -136,6 +136,21 @@ def least_by_word(rules, longest):
     return found
 
 
+def beginnings(rules, longest):
+    """For each head how its yields begin, as tuples of at most so many signs; of grammars without barren heads."""
+    found = {head: set() for head, body in rules}
+    before = None
+    while before != found:
+        before = {head: set(words) for head, words in found.items()}
+        for head, body in rules:
+            ahead = {()}
+            for symbol in body:
+                own = before[symbol] if is_great(symbol) else {(symbol,)}
+                ahead = {(word + more)[:longest] for word in ahead for more in own}
+            found[head] |= ahead
+    return found
+
+
 def cuts_of(length, parts):
     """All tuples of places at which so many parts, one behind the other, begin, and the last one ends."""
     return itertools.combinations_with_replacement(range(length + 1), parts + 1)

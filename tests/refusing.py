@@ -1,4 +1,4 @@
-"""How tests look at refusals."""
+"""How tests look at refusals, and at lists that are told."""
 
 import unittest
 
@@ -21,3 +21,16 @@ class Refusing(unittest.TestCase):
                 self.assertIs(found, kept)
         else:
             self.fail(f"{type(answer)} told in the place of {kind.__name__}")
+
+
+def spoil(case, *tells):
+    """Change each list that is told; fail where one is told twice."""
+    for tell in tells:
+        case.assertIsNot(tell(), tell())
+        told = tell()
+        for inner in told:
+            if type(inner) is list:
+                inner.append(9)
+        told.append([0])
+        told.reverse()
+        tell().clear()

@@ -8,7 +8,7 @@ from rulestable.grammartext import read_grammar
 from tests.growing import row_of
 from tests.refusing import Refusing
 from tests.texts import BARE_FORTY_ONE, FORTY, FORTY_ONE
-from tests.things import far_numbers, no_words, other_things, truths
+from tests.things import no_rows
 
 GOOD = "S : S a | a | ~"
 
@@ -24,22 +24,12 @@ def closed_of_something(grammar, row):
 ASKERS = (Chart, closed_of_nothing, closed_of_something, tree_for, two_trees, goes_on)
 
 
-def no_rows():
-    """Things that are no rows of at most ten signs."""
-    told = [thing for thing in other_things() if type(thing) is not list or thing not in ([], ["a"])]
-    told += truths() + far_numbers() + no_words()
-    told += ["a", "ab", ("a",), ["a"] * 11, ["a"] * 4000, ["S"], ["a", "S"], ["$"], ["a", "$"], [""], ["a", None],
-             [True], [0], [["a"]], [("a",)], ["a"] * 10 + [0], ["a", "b", "aaaaaaa"], {"a": "a"}, "aaaaaaaaaa"]
-    told += [[word] for word in no_words()] + [["a", thing] for thing in other_things()]
-    return told
-
-
 class TestRows(Refusing):
 
     def test_things_that_are_none(self):
         grammar = read_grammar(GOOD)
         for ask in ASKERS:
-            for thing in no_rows():
+            for thing in no_rows(10):
                 self.refuses(NoRow, "found", thing, ask, grammar, thing)
 
     def test_ten_signs_and_eleven(self):

@@ -22,6 +22,9 @@ FUNCTIONS = {
     "items": """closed(grammar,items) led(grammar,items,symbol) core_of(items) is_valid(grammar,way,item,tree,path)""",
     "states": """paper_for(states,state,item)""",
     "conflicts": """conflict_paper(states,conflict) is_conflict(grammar,ahead,entries,paper)""",
+    "reader": """can_take(table,pile,ahead) takable(table,pile)""",
+    "ranked": """is_operators(grammar) keeps(grammar,tree) climbed(grammar,row)""",
+    "costs": """price_of(grammar,row,prices,deeds,tree) is_below(grammar,row,prices,costs)""",
 }
 CLASSES = {
     "grammar.Grammar": """(rules,ranks=None) heads() signs() numbers_of(head) head_of(number) body_of(number)
@@ -32,6 +35,9 @@ CLASSES = {
     "states.States": """(grammar,most=300) many() items(state) to(state,symbol) way(state)""",
     "tables.Table": """(states,ranked=True) many() conflicts() decided() open_ones() entry(state,ahead) to(state,head)""",
     "laying.Laid": """(table) groups() kept_apart() many() entry(group,ahead) to(group,head) open_ones()""",
+    "reader.Reading": """(table,row) word() steps() made() stacks() where() expected()""",
+    "anew.Anew": """(table,row) change(place,out,put) signs() looked() word() made() steps() where() expected()
+        stacks()""",
 }
 
 

@@ -9,7 +9,7 @@ from rulestable.states import States
 from rulestable.tables import Table
 from tests.doing import OwnTable, aheads_of, own_groups, own_kept_apart, ranked_grammars, twin_grammars
 from tests.looking import heads_of
-from tests.refusing import Refusing
+from tests.refusing import Refusing, spoil
 from tests.texts import EMPTY, FORTY, SUMS, TERMS
 from tests.things import all_things
 
@@ -302,14 +302,7 @@ class TestNothingChanges(unittest.TestCase):
         for text in (PAIRS, TWINS.format("c")):
             laid = laid_of(text)
             before = all_told(laid)
-            for tell in (laid.groups, laid.kept_apart, laid.open_ones):
-                self.assertIsNot(tell(), tell())
-                told = tell()
-                told.append([0])
-                told.reverse()
-                tell().clear()
-            for group in laid.groups():
-                group.append(0)
+            spoil(self, laid.groups, laid.kept_apart, laid.open_ones)
             self.assertEqual(all_told(laid), before)
 
     def test_the_same_of_another_made_alike(self):

@@ -58,3 +58,13 @@ def no_words():
 def all_things():
     """Things of all kinds, words and small numbers among them."""
     return other_things() + truths() + far_numbers() + no_words() + ["a", "E", "n", 0, 1, 2]
+
+
+def no_rows(most):
+    """Things that are no rows of at most so many signs."""
+    told = [thing for thing in other_things() if type(thing) is not list or thing not in ([], ["a"])]
+    told += truths() + far_numbers() + no_words()
+    told += ["a", "ab", ("a",), ["a"] * (most + 1), ["a"] * 4000, ["S"], ["a", "S"], ["$"], ["a", "$"], [""], ["a", None],
+             [True], [0], [["a"]], [("a",)], ["a"] * most + [0], ["a", "b", "aaaaaaa"], {"a": "a"}, "a" * most]
+    told += [[word] for word in no_words()] + [["a", thing] for thing in other_things()]
+    return told
