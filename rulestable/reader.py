@@ -48,6 +48,22 @@ def look_on(table, row, looks):
     looks.append(look_at(table, pile_at(looks, place), ahead))
 
 
+def looks_through(table, row):
+    """Tell the looks at a row, up to the first refused one."""
+    looks = []
+    while not is_over(row, looks):
+        look_on(table, row, looks)
+    return looks
+
+
+def steps_in(looks):
+    """Tell all steps of the looks, in their order."""
+    told = []
+    for look in looks:
+        told.extend(look[0])
+    return told
+
+
 def can_take(table, pile, ahead):
     """Tell whether a sign or the end mark would be taken from a pile on."""
     return look_at(table, pile, ahead)[1] is not None
@@ -67,9 +83,7 @@ class Reading:
         need_row(row, MOST_READ)
         self.table = table
         self.row = list(row)
-        self.looks = []
-        while not is_over(self.row, self.looks):
-            look_on(table, self.row, self.looks)
+        self.looks = looks_through(table, self.row)
         self.tree = self.grown_tree()
 
     def grown_tree(self):
@@ -82,10 +96,7 @@ class Reading:
 
     def steps(self):
         """Tell all that was done, in its order."""
-        told = []
-        for look in self.looks:
-            told.extend(look[0])
-        return told
+        return steps_in(self.looks)
 
     def made(self):
         """Tell the tree of a row that was read, or None."""

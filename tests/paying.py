@@ -1,9 +1,10 @@
 """The tests' own prices and tables of costs, by the document's words; nothing here asks the package."""
 
+import heapq
 import itertools
 
 from tests.growing import row_of
-from tests.looking import cuts_of, heads_of, is_own_tree, least_by_word, signs_of
+from tests.looking import cuts_of, heads_of, is_own_tree, least_by_word, make_closed_triples, signs_of
 
 FAR = 10 ** 9
 
@@ -118,3 +119,30 @@ def cheapest_words(rules, row, prices, longest):
             if told:
                 found[head, i, j] = min(told)
     return found
+
+
+def rows_by_price(rules, row, prices, most):
+    """Rows that come of the row by deeds, one after the other, the cheapest first: tuples (price, row), at most so many.
+
+    Only signs of the rules are put in: no other sign stands in a row that is let by.
+    """
+    waiting, done = [(0, tuple(row))], {}
+    while waiting and len(done) < most:
+        price, told = heapq.heappop(waiting)
+        if told in done:
+            continue
+        done[told] = price
+        yield price, list(told)
+        for place, sign in enumerate(told):
+            heapq.heappush(waiting, (price + prices[sign][1], told[:place] + told[place + 1:]))
+        for place in range(len(told) + 1):
+            for sign in signs_of(rules):
+                heapq.heappush(waiting, (price + prices[sign][0], told[:place] + (sign,) + told[place:]))
+
+
+def cheapest_let_by(rules, row, prices, most):
+    """The least price at which a row that is let by comes of the row, None where so many rows have none among them."""
+    for price, told in rows_by_price(rules, row, prices, most):
+        if (rules[0][0], 0, len(told)) in make_closed_triples(rules, told):
+            return price
+    return None

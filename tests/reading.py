@@ -102,6 +102,17 @@ class OwnReading:
                 self.expected())
 
 
+def own_looked(old, new, signs, place, out, put):
+    """The places looked at, by the stacks of readings afresh ahead of the change and behind it."""
+    if old.where is not None and old.where < place:
+        return place, place
+    for there in range(place + len(put), len(signs) + 1):
+        before = there - len(put) + out
+        if there < len(new.piles) and before < len(old.piles) and new.piles[there] == old.piles[before]:
+            return place, there
+    return place, len(signs) + 1 if new.where is None else new.where + 1
+
+
 def told_by(reading):
     """All that a reading of the package tells, its tree as nested tuples."""
     tree = reading.made()

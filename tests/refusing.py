@@ -23,6 +23,14 @@ class Refusing(unittest.TestCase):
             self.fail(f"{type(answer)} told in the place of {kind.__name__}")
 
 
+def outcome(ask, *told):
+    """What is told, or the class of the refusal and all that it keeps."""
+    try:
+        return "told", ask(*told)
+    except TableError as refusal:
+        return type(refusal), vars(refusal)
+
+
 def spoil(case, *tells):
     """Change each list that is told; fail where one is told twice."""
     for tell in tells:

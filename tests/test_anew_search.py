@@ -8,18 +8,7 @@ from rulestable.laying import Laid
 from rulestable.reader import Reading
 from tests.growing import grown_tree, row_of, with_other_part
 from tests.looking import signs_of
-from tests.reading import OwnReading, decided_tables, plain_tables, rows_for, told_by
-
-
-def own_looked(old, new, signs, place, out, put):
-    """The places looked at, by the stacks of readings afresh ahead of the change and behind it."""
-    if old.where is not None and old.where < place:
-        return place, place
-    for there in range(place + len(put), len(signs) + 1):
-        before = there - len(put) + out
-        if there < len(new.piles) and before < len(old.piles) and new.piles[there] == old.piles[before]:
-            return place, there
-    return place, len(signs) + 1 if new.where is None else new.where + 1
+from tests.reading import OwnReading, decided_tables, own_looked, plain_tables, rows_for, told_by
 
 
 def change_by(chance, length, signs):

@@ -1,50 +1,19 @@
 """[24], [25], [26], [6]: grammars read from texts, and shown."""
 
 import itertools
-import re
 import unittest
 
-from rulestable.errors import Doubled, NoHead, NoRanks, NoRule, NoText, TableError, TooMany
+from rulestable.errors import Doubled, NoHead, NoRanks, NoRule, NoText, TooMany
 from rulestable.grammar import Grammar
 from rulestable.grammartext import read_grammar, show_grammar
 from tests.growing import some_grammars
 from tests.refusing import Refusing
 from tests.things import far_numbers, no_words, other_things, truths
+from tests.writing import by_patterns, grammar_told
 
 EXAMPLE = "left + -\nright ^\nE : E + E | E - E | E ^ E | n\nEmpty : ~"
 EXAMPLE_RULES = (("E", ("E", "+", "E")), ("E", ("E", "-", "E")), ("E", ("E", "^", "E")), ("E", ("n",)), ("Empty", ()))
 EXAMPLE_RANKS = (("left", ("+", "-")), ("right", ("^",)))
-
-SIGN = r"[a-z0-9+\-*/()\[\]=<>,;.!?^&]{1,6}"
-HEAD = r"[A-Z][a-z0-9]{0,5}"
-BODY = f"(?:~|(?:{SIGN}|{HEAD})(?: (?:{SIGN}|{HEAD}))*)"
-RULES_ROW = re.compile(rf"(?P<head>{HEAD}) : {BODY}(?: \| {BODY})*\Z")
-RANK_ROW = re.compile(rf"(?:left|right|none)(?: {SIGN})+\Z")
-
-
-def by_patterns(text):
-    """What a text tells, found by patterns: the number of a bad row, or rules and ranks."""
-    rules, ranks = [], []
-    for line, row in enumerate(text.split("\n")):
-        if RULES_ROW.match(row):
-            head, bodies = row.split(" : ")
-            for body in bodies.split(" | "):
-                rules.append((head, () if body == "~" else tuple(body.split(" "))))
-        elif RANK_ROW.match(row) and not rules:
-            side, signs = row.split(" ", 1)
-            ranks.append((side, tuple(signs.split(" "))))
-        else:
-            return line
-    return rules, ranks
-
-
-def outcome(ask):
-    """What is told, or how it is refused, in a form that can be compared."""
-    try:
-        grammar = ask()
-    except TableError as refusal:
-        return type(refusal).__name__, vars(refusal)
-    return grammar.rules, grammar.ranks
 
 
 class TestRead(Refusing):
@@ -228,7 +197,7 @@ class TestThenAsAGrammar(Refusing):
             for chosen in itertools.product(bodies, repeat=3):
                 text = f"{ranks}E : {chosen[0]} | {chosen[1]}\nF : {chosen[2]} | c"
                 rules, told = by_patterns(text)
-                self.assertEqual(outcome(lambda: read_grammar(text)), outcome(lambda: Grammar(rules, told)))
+                self.assertEqual(grammar_told(read_grammar, text), grammar_told(Grammar, rules, told))
 
 
 class TestAgainstPatterns(unittest.TestCase):
@@ -237,10 +206,10 @@ class TestAgainstPatterns(unittest.TestCase):
     def compare(self, text):
         found = by_patterns(text)
         if isinstance(found, int):
-            self.assertEqual(outcome(lambda: read_grammar(text)), ("NoText", {"line": found}), repr(text))
+            self.assertEqual(grammar_told(read_grammar, text), (NoText, {"line": found}), repr(text))
         else:
             rules, ranks = found
-            self.assertEqual(outcome(lambda: read_grammar(text)), outcome(lambda: Grammar(rules, ranks)), repr(text))
+            self.assertEqual(grammar_told(read_grammar, text), grammar_told(Grammar, rules, ranks), repr(text))
 
     def test_short_texts_of_words_and_blanks(self):
         for length in range(6):
@@ -303,7 +272,7 @@ class TestShown(unittest.TestCase):
         self.assertEqual(show_grammar(grammar), show_grammar(grammar))
         self.assertEqual((grammar.rules, grammar.ranks), (EXAMPLE_RULES, EXAMPLE_RANKS))
         for text in (EXAMPLE, "E", "E : a\n"):
-            self.assertEqual(outcome(lambda: read_grammar(text)), outcome(lambda: read_grammar(text)))
+            self.assertEqual(grammar_told(read_grammar, text), grammar_told(read_grammar, text))
 
 
 if __name__ == "__main__":

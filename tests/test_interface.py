@@ -25,6 +25,8 @@ FUNCTIONS = {
     "reader": """can_take(table,pile,ahead) takable(table,pile)""",
     "ranked": """is_operators(grammar) keeps(grammar,tree) climbed(grammar,row)""",
     "costs": """price_of(grammar,row,prices,deeds,tree) is_below(grammar,row,prices,costs)""",
+    "mending": """mend(grammar,row,prices)""",
+    "ownbook": """kinds_of(row) own_grammar() own_table() read_by_table(table,text)""",
 }
 CLASSES = {
     "grammar.Grammar": """(rules,ranks=None) heads() signs() numbers_of(head) head_of(number) body_of(number)
@@ -38,7 +40,10 @@ CLASSES = {
     "reader.Reading": """(table,row) word() steps() made() stacks() where() expected()""",
     "anew.Anew": """(table,row) change(place,out,put) signs() looked() word() made() steps() where() expected()
         stacks()""",
+    "desk.Desk": """() say(line)""",
 }
+# How these are made is not told: another function makes them.
+MADE_BY_OTHERS = {"mending.Mend": """price() deeds() mended() answer() costs()"""}
 
 
 def shown(thing):
@@ -63,10 +68,23 @@ class TestInterface(unittest.TestCase):
             kind = getattr(importlib.import_module("rulestable." + file), word)
             made, *methods = told.split()
             self.assertEqual(shown(kind), made, name)
-            for wanted in methods:
-                method = getattr(kind, wanted[:wanted.index("(")])
-                self.assertEqual(shown(method).replace("(self,", "(").replace("(self)", "()"),
-                                 wanted[wanted.index("("):], name)
+            self.has_methods(name, kind, methods)
+
+    def test_classes_that_others_make(self):
+        for name, told in MADE_BY_OTHERS.items():
+            file, word = name.split(".")
+            self.has_methods(name, getattr(importlib.import_module("rulestable." + file), word), told.split())
+
+    def has_methods(self, name, kind, methods):
+        for wanted in methods:
+            method = getattr(kind, wanted[:wanted.index("(")])
+            self.assertEqual(shown(method).replace("(self,", "(").replace("(self)", "()"), wanted[wanted.index("("):], name)
+
+    def test_files(self):
+        for name in "errors words grammar grammartext trees treetext books shut chart items states tables conflicts laying".split():
+            importlib.import_module("rulestable." + name)
+        for name in "reader ranked anew costs mending ownbook desk lines".split():
+            importlib.import_module("rulestable." + name)
 
     def test_refusals(self):
         errors = importlib.import_module("rulestable.errors")
