@@ -3,7 +3,7 @@
 import unittest
 
 from rulestable.desk import Desk
-from rulestable.errors import NoLine
+from rulestable.errors import NoLine, NoPlace
 from rulestable.grammartext import read_grammar, show_grammar
 from tests.asking import GRAMMARS, OwnDesk, desk_of
 from tests.texts import DEAD, EMPTY, FORTY, SUMS, TERMS, THREE_HUNDRED
@@ -111,7 +111,7 @@ class TestReading(Saying):
     def test_numbers_of_four_figures(self):
         desk = desk_of("S : a")
         self.says(desk, "read a", "read {0 a}", "change 0 0", "read {0 a}")
-        self.assertRaisesRegex(ValueError, "9999", desk.say, "change 9999 0")
+        self.assertRaises(NoPlace, desk.say, "change 9999 0")
         self.assertRaises(NoLine, desk.say, "change 10000 0")
 
 

@@ -237,6 +237,49 @@ class TestLanguage(unittest.TestCase):
         for where, node in nodes(ast.Raise):
             self.assertIsInstance(node.exc, ast.Call, where)
 
+    def test_written_texts(self):
+        for where, node in nodes(ast.FormattedValue):
+            self.assertIsInstance(node.value, ast.Name, where)
+            self.assertIn(node.conversion, (-1, ord("r")), where)
+            self.assertIsNone(node.format_spec, where)
+        for path in files():
+            for escape in re.findall(r"\\(.)", path.read_text(encoding="ascii").replace("\\\\", "")):
+                self.assertIn(escape, "nt'\"", path.name)
+
+    def test_lambdas_with_the_same_parameters(self):
+        told = [(where, ast.dump(node.args)) for where, node in nodes(ast.Lambda)]
+        self.assertEqual(len(told), len(set(told)))
+
+    def test_targets(self):
+        for where, node in nodes(ast.Assign):
+            self.assertIsInstance(node.targets[0], (ast.Name, ast.Attribute, ast.Subscript), where)
+        for where, node in nodes(ast.Attribute):
+            if isinstance(node.ctx, ast.Store):
+                self.assertIsInstance(node.value, ast.Name, where)
+
+    def test_lists_and_dicts_of_the_top_are_only_read(self):
+        held = {part.targets[0].id for name, tree in trees() for part in tree.body
+                if isinstance(part, ast.Assign) and isinstance(part.value, (ast.List, ast.Dict))}
+        takers = ("len", "list", "tuple", "dict", "sorted", "any", "all", "sum", "min", "max", "enumerate")
+        for where, node in nodes(ast.Name):
+            if node.id in held and isinstance(node.ctx, ast.Load):
+                above = parents()[node]
+                reads = isinstance(above, (ast.Subscript, ast.For, ast.comprehension, ast.Compare)) or called(above) in takers
+                asks = isinstance(above, ast.Attribute) and above.attr in ("get", "items", "keys", "values")
+                self.assertTrue(reads or asks, where)
+                self.assertIsInstance(getattr(above, "ctx", ast.Load()), ast.Load, where)
+
+    def test_classes_are_not_handed_on(self):
+        kinds = {node.name for where, node in nodes(ast.ClassDef)}
+        for where, node in nodes(ast.Name):
+            if node.id in kinds:
+                above = parents()[node]
+                if isinstance(above, ast.Tuple):
+                    above = parents()[above]
+                makes = isinstance(above, ast.Call) and (above.func is node or called(above) == "isinstance")
+                base = isinstance(above, ast.Attribute) and above.attr == "__init__"
+                self.assertTrue(makes or base or isinstance(above, (ast.ClassDef, ast.ExceptHandler)), where)
+
     def test_the_top_of_files(self):
         allowed = (ast.ImportFrom, ast.FunctionDef, ast.ClassDef, ast.Assign)
         for name, tree in trees():
